@@ -1,0 +1,1 @@
+"""Numbers in the alphabetical order of their names."""
