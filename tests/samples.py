@@ -1,10 +1,12 @@
 """Tables and calls that several tests use."""
 
 from copy import deepcopy
+from random import Random
 from string import ascii_lowercase
 
-from wordorder.errors import InvalidTable, OrderError
-from wordorder.tables import english
+from wordorder.errors import InvalidNumber, InvalidRange, InvalidTable, OrderError
+from wordorder.names import name
+from wordorder.tables import english, limit
 
 LETTERS = ascii_lowercase[:20]
 
@@ -20,6 +22,50 @@ def odd_table():
     ones = [letter for letter in reversed(LETTERS)]
     tens = [letter * 20 for letter in LETTERS[:8]]
     return (ones, tens, "x", ["zz", "z"])
+
+
+def nested_table(many):
+    """A valid table with so many scale words, whose words begin one another and are in no order."""
+    spots = [at * 7 % 20 + 1 for at in range(20)]
+    return (["a" * spot for spot in spots], ["a" * (spot - 1) + "b" for spot in spots[:8]], "ba",
+            ["c" * spot for spot in spots[:many]])
+
+
+def mixed_table(many, seed):
+    """A valid table with so many scale words, whose words are made of three letters by chance, always the same ones."""
+    chance = Random(seed)
+    words = []
+    while len(words) < 29 + many:
+        word = "".join(chance.choice("abc") for _ in range(chance.randint(1, 20)))
+        if word not in words:
+            words.append(word)
+    return (words[:20], words[20:28], words[28], words[29:])
+
+
+def small_tables():
+    """Valid tables without scale words, in the usual order of the words and in others."""
+    return [english(0), nested_table(0), mixed_table(0, 1), mixed_table(0, 2)]
+
+
+def great_tables():
+    """Valid tables with 20 scale words."""
+    return [wide_table(20), nested_table(20), mixed_table(20, 3), mixed_table(20, 4)]
+
+
+def names_below_million(table):
+    """The list of the names of 0 to 999999, by a table with one scale word."""
+    scale = table[3][0]
+    low = [name(table, number) for number in range(1000)]
+    names = list(low)
+    for high in range(1, 1000):
+        names.append(low[high] + " " + scale)
+        names.extend(low[high] + " " + scale + " " + ending for ending in low[1:])
+    return names
+
+
+def sorted_by_name(table, numbers):
+    """The numbers in alphabetical order."""
+    return sorted(numbers, key=lambda number: name(table, number))
 
 
 def changed(part, at, word, scales=2):
@@ -99,6 +145,11 @@ def valid_tables():
     return [english(0), english(1), english(10), wide_table(0), wide_table(1), wide_table(20), odd_table()]
 
 
+def numbers_around(bound):
+    """Numbers that are not from 0 to the bound less 1."""
+    return (-1, -2, -10 ** 70, bound, bound + 1, 10 ** 70)
+
+
 class Checks:
     """What the test cases of several files check in the same way."""
 
@@ -112,6 +163,13 @@ class Checks:
         self.assertEqual(held.exception.value, value)
         self.assertEqual((args, named), (args_before, named_before))
 
+    def call(self, action, *args, **named):
+        """Return what the call returns, having checked that it leaves its arguments as they were."""
+        before = deepcopy((args, named))
+        told = action(*args, **named)
+        self.assertEqual((args, named), before)
+        return told
+
     def assert_table_check(self, action, **others):
         """The call makes the Table check of its argument table, before it looks at its other arguments."""
         cases = [(table, None) for table in wrong_lengths()] + wrong_words()
@@ -119,3 +177,38 @@ class Checks:
             with self.subTest(table=table):
                 self.assert_raises_exactly(InvalidTable, value, action, table, *others.values())
                 self.assert_raises_exactly(InvalidTable, value, action, table=table, **others)
+
+
+class BelowChecks(Checks):
+    def assert_below_check(self, action, **others):
+        """The call makes the Below check of its argument below, before it looks at its other arguments."""
+        for table in valid_tables():
+            top = limit(table)
+            for below in (0, -1, -2, -10 ** 70, top + 1, top + 2, top * 2, 10 ** 70):
+                with self.subTest(below=below):
+                    self.assert_raises_exactly(InvalidRange, below, action, table, *others.values(), below)
+                    self.assert_raises_exactly(InvalidRange, below, action, table=table, **others, below=below)
+
+    def assert_spot_check(self, action, other):
+        """The call raises InvalidNumber for what is not from 0 to below less 1."""
+        for table in valid_tables():
+            for below in (1, 2, 10, 345, 999, 1000, limit(table) - 1, limit(table), None):
+                bound = limit(table) if below is None else below
+                for wrong in numbers_around(bound):
+                    with self.subTest(below=below, wrong=wrong):
+                        named = {"table": table, other: wrong, "below": below}
+                        self.assert_raises_exactly(InvalidNumber, wrong, action, table, wrong, below)
+                        self.assert_raises_exactly(InvalidNumber, wrong, action, **named)
+            for wrong in numbers_around(limit(table)):
+                self.assert_raises_exactly(InvalidNumber, wrong, action, table, wrong)
+                self.assert_raises_exactly(InvalidNumber, wrong, action, **{"table": table, other: wrong})
+
+    def assert_none_is_the_limit(self, action, other):
+        for table in valid_tables():
+            for number in (0, 1, 7, 999, limit(table) - 1):
+                told = self.call(action, table, number, limit(table))
+                self.assertEqual(self.call(action, table, number), told)
+                self.assertEqual(self.call(action, table, number, None), told)
+                self.assertEqual(self.call(action, table, number, below=None), told)
+                self.assertEqual(self.call(action, **{"table": table, other: number, "below": None}), told)
+                self.assertEqual(self.call(action, **{"table": table, other: number}), told)

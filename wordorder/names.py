@@ -39,7 +39,7 @@ def spelled(table, number):
     ones, _, _, scales = table
     if number == 0:
         return [ones[0]]
-    groups = _groups(number)
+    groups = groups_of(number)
     words = []
     for at in reversed(range(len(groups))):
         if groups[at] > 0:
@@ -49,7 +49,7 @@ def spelled(table, number):
     return words
 
 
-def _groups(number):
+def groups_of(number):
     """Return the groups of three digits of a number, the lowest one first."""
     groups = []
     rest = number
@@ -77,13 +77,13 @@ def _group_words(table, group):
 
 def _guess(table, text):
     """Return the number of a name; for words that are no name, some number whose name is another text."""
-    worths = _worths(table)
+    meanings = worths(table)
     total = 0
     group = 0
     for word in text.split(" "):
-        if word not in worths:
+        if word not in meanings:
             raise Unreadable(text)
-        worth = worths[word]
+        worth = meanings[word]
         if worth == 100:
             # In a name one digit stands here; taking no more of it keeps the guess small for words that repeat.
             group = group % 10 * 100
@@ -95,16 +95,16 @@ def _guess(table, text):
     return total + group
 
 
-def _worths(table):
+def worths(table):
     """Return a dict from each word of a table to the number for which it stands."""
     ones, tens, hundred, scales = table
-    worths = {hundred: 100}
+    found = {hundred: 100}
     for digit, word in enumerate(ones):
-        worths[word] = digit
+        found[word] = digit
     for at, word in enumerate(tens):
-        worths[word] = 10 * (at + 2)
+        found[word] = 10 * (at + 2)
     worth = 1
     for word in scales:
         worth = worth * 1000
-        worths[word] = worth
-    return worths
+        found[word] = worth
+    return found

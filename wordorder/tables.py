@@ -43,6 +43,11 @@ def check_table(table):
 def limit(table):
     """Return the limit of a table: the least number for which it has no name."""
     check_table(table)
+    return top_of(table)
+
+
+def top_of(table):
+    """Return the limit of a table, without any check."""
     top = 1000
     for _ in table[3]:
         top = top * 1000
