@@ -170,6 +170,14 @@ class Checks:
         self.assertEqual((args, named), before)
         return told
 
+    def assert_number_check(self, action, *others, **named):
+        """The call makes the Number check of its argument number; the others stand before it."""
+        for table in valid_tables():
+            for wrong in numbers_around(limit(table)):
+                with self.subTest(scales=len(table[3]), wrong=wrong):
+                    self.assert_raises_exactly(InvalidNumber, wrong, action, table, *others, wrong)
+                    self.assert_raises_exactly(InvalidNumber, wrong, action, table=table, **named, number=wrong)
+
     def assert_table_check(self, action, **others):
         """The call makes the Table check of its argument table, before it looks at its other arguments."""
         cases = [(table, None) for table in wrong_lengths()] + wrong_words()

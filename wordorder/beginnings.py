@@ -49,6 +49,34 @@ def steps(beginning, words):
     return found
 
 
+def state_of(beginning):
+    """Return the state of a beginning, a tuple: beginnings of the same state go on in the same ways.
+
+    Each further word leads to a lesser state, so the state of the beginning without any word is the greatest one.
+    """
+    _, group, room, top = beginning
+    if room == 100:
+        return (top, 4 if group == 0 else 2)
+    if room == 10:
+        return (top, 1)
+    return (top, 3 if 0 < group < 10 else 0)
+
+
+def next_states(table):
+    """Return a dict from each state, the greatest one first, to a dict from each next word to the state behind it."""
+    words = vocabulary(table)
+    found = {}
+    waiting = [start(table)]
+    while waiting:
+        beginning = waiting.pop()
+        state = state_of(beginning)
+        if state not in found:
+            longer = steps(beginning, words)
+            found[state] = {word: state_of(then) for word, then in longer}
+            waiting.extend([then for _, then in longer])
+    return {state: found[state] for state in sorted(found, reverse=True)}
+
+
 def own_number(beginning):
     """Return the number whose whole name a beginning with at least one word is."""
     total, group, _, _ = beginning

@@ -52,3 +52,9 @@ def top_of(table):
     for _ in table[3]:
         top = top * 1000
     return top
+
+
+def copied(table):
+    """Return a copy of a table that shares no list with it."""
+    ones, tens, hundred, scales = table
+    return (list(ones), list(tens), hundred, list(scales))
