@@ -268,7 +268,7 @@ class DoubleText(Checks, unittest.TestCase):
                 ({0: "qbwzyw"}, "qbwzyw", [0, 100]), ({7: "qcwzyw"}, "qcwzyw", [7, 200]),
                 ({19: "vawqbw"}, "vawqbw", [19, 21]), ({3: "qcwz", 100: "zyw", 0: "yw"}, None, []),
                 ({2: "m", 3: "mz", 4: "zn", 5: "n", 100: "zz"}, None, []),
-                ({2: "m", 3: "mz", 14: "zn", 15: "n", 100: "zz"}, None, [])):
+                ({2: "m", 20: "mz", 5: "zn", 15: "n", 100: "zz"}, "mzzn", [25, 215])):
             table = table_of(changes)
             with self.subTest(changes=changes):
                 told = self.call(double_text, table)
